@@ -1,0 +1,1 @@
+"""Allmends: all least mends of a program, for streams of every length."""
