@@ -37,15 +37,15 @@ def expressions_of(statement):
 
 
 def statements_of(body):
-    """Pairs (statement, depth) for all statements of a body, in the order in which they begin."""
+    """Pairs (statement, depth) for all statements of a body, in no special order."""
     found = []
     # A list of what waits instead of recursion: bodies may be nested far deeper than a program allows.
-    waiting = [(statement, 1) for statement in reversed(body)]
+    waiting = [(statement, 1) for statement in body]
     while waiting:
         statement, depth = waiting.pop()
         found.append((statement, depth))
-        for inner in reversed(bodies_of(statement)):
-            waiting.extend([(below, depth + 1) for below in reversed(inner)])
+        for inner in bodies_of(statement):
+            waiting.extend([(below, depth + 1) for below in inner])
     return found
 
 

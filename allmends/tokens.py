@@ -6,7 +6,6 @@ from allmends.names import DIGITS, KEYWORDS, LETTERS, WORD_CHARACTERS
 LONGEST_TEXT = 4000
 LONGEST_NUMBER = 4
 BLANKS = " \n"
-SIGNS = "(),=<+-*"
 
 
 class Reader:
@@ -72,7 +71,10 @@ class Reader:
 
 
 def tokens_of(text):
-    """Triples (kind, characters, position), the last one for the end of the text."""
+    """Triples (kind, characters, position), the last one for the end of the text.
+
+    The kinds are "word", "number", "other" and "end".
+    """
     tokens = []
     position = 0
     while position < len(text):
@@ -88,8 +90,8 @@ def tokens_of(text):
 def token_at(text, position):
     """The kind of the token that begins at the position, and the position behind it.
 
-    What fits nowhere is a token of the kind "wrong", so that it is refused only
-    when everything before it was read.
+    What begins no token and a number that is not allowed are tokens too, which nothing
+    asks for: so they are refused only when everything before them was read.
     """
     first = text[position]
     if first in LETTERS:
@@ -98,10 +100,9 @@ def token_at(text, position):
         behind = run_end(text, position, DIGITS)
         many = behind - position
         fits = many == 1 or (first != "0" and many <= LONGEST_NUMBER)
-        return "number" if fits else "wrong", behind
-    if text[position:position + 2] == "==":
-        return "sign", position + 2
-    return "sign" if first in SIGNS else "wrong", position + 1
+        return "number" if fits else "other", behind
+    many = 2 if text[position:position + 2] == "==" else 1
+    return "other", position + many
 
 
 def run_end(text, position, characters):
