@@ -10,6 +10,14 @@ def frozen(value):
     return value
 
 
+def product_of(sizes):
+    """The product of some numbers, 1 if there are none."""
+    result = 1
+    for size in sizes:
+        result = result * size
+    return result
+
+
 def in_sight(variables, procedure):
     """The pairs (name, size) of the variables in sight of a procedure, in the order of point 8."""
     return list(variables) + list(procedure[1]) + list(procedure[2])

@@ -1,11 +1,9 @@
 """The rules that a program keeps (point 7)."""
 
-from allmends.forms import expressions_of, in_sight, is_deeper, leaves_of, statements_of
+from allmends.forms import expressions_of, in_sight, is_deeper, leaves_of, product_of, statements_of
+from allmends.letters import letters_reason
 from allmends.names import is_name
 
-MOST_LETTERS = 3
-LEAST_ANSWERS = 2
-MOST_ANSWERS = 4
 MOST_PROCEDURES = 5
 MOST_GLOBALS = 4
 MOST_PARAMETERS = 3
@@ -23,19 +21,16 @@ def first_reason(letters, answers, variables, procedures):
     """The first reason of point 7 to refuse a program, or the empty string."""
     # The order counts: what a later rule looks at was made sure by the earlier ones.
     return (
-        count_reason(letters, answers, variables, procedures)
+        letters_reason(letters, answers)
+        or count_reason(variables, procedures)
         or declaration_reason(variables, procedures)
         or shape_reason(procedures)
         or meaning_reason(letters, variables, procedures)
     )
 
 
-def count_reason(letters, answers, variables, procedures):
-    """The first reason of 1 to 4, or the empty string."""
-    if not 1 <= letters <= MOST_LETTERS:
-        return "letters"
-    if not LEAST_ANSWERS <= answers <= MOST_ANSWERS:
-        return "answers"
+def count_reason(variables, procedures):
+    """The first reason of 3 and 4, or the empty string."""
     if not 1 <= len(procedures) <= MOST_PROCEDURES:
         return "procedures"
     if len(variables) > MOST_GLOBALS or any([has_many_variables(procedure) for procedure in procedures]):
@@ -65,14 +60,6 @@ def declaration_reason(variables, procedures):
     if len(procedures[0][1]) > 0:
         return "main"
     return ""
-
-
-def product_of(sizes):
-    """The product of some numbers, 1 if there are none."""
-    result = 1
-    for size in sizes:
-        result = result * size
-    return result
 
 
 def shape_reason(procedures):

@@ -2,6 +2,7 @@
 
 from allmends.notation import parse_program
 from allmends.programs import Program
+from allmends.tables import parse_contract
 
 SOURCE = "letters 2 answers 2 proc main() local x 3 read x x = 0 write 0 end"
 
@@ -26,3 +27,13 @@ def has_only_tuples(value):
     if isinstance(value, tuple):
         return all(has_only_tuples(part) for part in value)
     return value is None or isinstance(value, (int, str))
+
+
+def sample_contract():
+    """The contract of the document's examples."""
+    return parse_contract(RULES)
+
+
+def open_state(letters=1, answers=2, target=0, finish=True, silence=True):
+    """A state in which every event leads to the target."""
+    return ([target] * letters, target, [target] * answers, finish, silence)
