@@ -41,7 +41,9 @@ class WeightTest(unittest.TestCase):
         self.assertEqual(weight_of(text), 8 * 2 + (2 * 2) * (2 * 12 * 2))
 
     def test_procedures_that_are_never_called_count(self):
-        parts = ["proc main() call p(1) end", "proc p(a 2) call p(a) end", "proc q() local x 3 end", "proc r(b 4) skip end"]
+        parts = [
+            "proc main() call p(1) end", "proc p(a 2) call p(a) end", "proc q() local x 3 end", "proc r(b 4) skip end",
+        ]
         one = 2 * 1 * 2
         others = [(2 * 2) * (2 * 2 * 2), 2 * (1 * 3 * 2), (4 * 2) * (2 * 4 * 2)]
         self.assertEqual(weight_of(" ".join(parts)), one + sum(others))

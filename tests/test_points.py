@@ -95,7 +95,8 @@ class PointsTest(unittest.TestCase):
 
     def test_while_and_if_at_the_end_of_an_if_body(self):
         self.check([("if", X, [("while", X, [SKIP])], [("if", X, [], [SKIP])]), WRITE], (
-            ("test", 0, 1, 3), ("test", 1, 2, 5), ("skip", 1), ("test", 2, 5, 4), ("skip", 5), ("write", 3, 6), ("end",),
+            ("test", 0, 1, 3), ("test", 1, 2, 5), ("skip", 1), ("test", 2, 5, 4), ("skip", 5), ("write", 3, 6),
+            ("end",),
         ))
 
     def test_an_if_in_an_if_at_the_end_of_a_while_body(self):

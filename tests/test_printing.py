@@ -120,8 +120,9 @@ class PrintExpressionTest(unittest.TestCase):
             "not a or b", "not (a or b)", "not (a and b)", "not (not a)", "not a == b", "(not a) == b", "a == (not b)",
             "not a < b + 1", "(a == b) == c", "a == (b == c)", "(a < b) == c", "a < (b == c)", "a + b < c * d",
             "a == (b and c)", "(a or b) < c", "a + b + c", "a + (b + c)", "a - b - c", "a - (b - c)", "a - (b + c)",
-            "a + (b - c)", "a - b + c", "a + b * c", "(a + b) * c", "a * (b - c)", "a * b * c", "a * (b * c)", "a * b + c",
-            "a * (not b)", "(not a) * b", "(a == b) + c", "a + (b < c)", "(a and b) + c", "a and not b", "a or not b and c",
+            "a + (b - c)", "a - b + c", "a + b * c", "(a + b) * c", "a * (b - c)", "a * b * c", "a * (b * c)",
+            "a * b + c", "a * (not b)", "(not a) * b", "(a == b) + c", "a + (b < c)", "(a and b) + c", "a and not b",
+            "a or not b and c",
             "not a and not b", "a and b == c", "a and (b or c)", "not a + b", "(not a) + b",
         ):
             self.assertEqual(print_expression(parse_expression(text)), text)

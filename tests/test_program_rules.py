@@ -171,7 +171,8 @@ class NamesTest(unittest.TestCase):
 
     def test_a_name_may_stand_again_elsewhere(self):
         self.assertIsNone(reason(variables=[("main", 2)], inner=[("p", 2)], others=[("p", [("q", 2)], [], [])]))
-        self.assertIsNone(reason(inner=[("a", 2)], others=[("p", [("a", 3)], [("b", 2)], []), ("q", [], [("a", 4)], [])]))
+        others = [("p", [("a", 3)], [("b", 2)], []), ("q", [], [("a", 4)], [])]
+        self.assertIsNone(reason(inner=[("a", 2)], others=others))
 
 
 class MeaningTest(unittest.TestCase):

@@ -245,7 +245,8 @@ class ExpressionTest(MarkedTest):
     def test_operators_associate_to_the_left(self):
         for first, second in ("++", "--", "+-", "-+", "**", ("or", "or"), ("and", "and")):
             self.same(f"a {first} b {second} c", f"(a {first} b) {second} c")
-            self.assertNotEqual(parse_expression(f"a {first} b {second} c"), parse_expression(f"a {first} (b {second} c)"))
+            other = parse_expression(f"a {first} (b {second} c)")
+            self.assertNotEqual(parse_expression(f"a {first} b {second} c"), other)
 
     def test_levels(self):
         self.same("a or b and c or d", "(a or (b and c)) or d")
@@ -261,9 +262,11 @@ class ExpressionTest(MarkedTest):
     def test_what_does_not_fit(self):
         for text in ("^", "a + ^", "(a^", "not^", "(^", "a and^"):
             self.refuse_expression(text)
-        for text in ("a < b ^< c", "a == b ^== c", "a == b ^< c", "not ^not a", "a == ^not b", "a + ^not b", "a * ^* b",
-                     "a ^b", "a ^1", "1 ^a", "a ^)", "(a ^b)", "(^)", "^)", "^- 1", "a + ^- 1", "a ^(b)", "^, a", "a ^not b",
-                     "a and ^or b", "(a < b ^== c)", "^== a", "a or ^and b"):
+        for text in (
+            "a < b ^< c", "a == b ^== c", "a == b ^< c", "not ^not a", "a == ^not b", "a + ^not b", "a * ^* b",
+            "a ^b", "a ^1", "1 ^a", "a ^)", "(a ^b)", "(^)", "^)", "^- 1", "a + ^- 1", "a ^(b)", "^, a", "a ^not b",
+            "a and ^or b", "(a < b ^== c)", "^== a", "a or ^and b",
+        ):
             self.refuse_expression(text)
         self.refuse("a ^, b", parse_expression)
         self.refuse("a ^= b", parse_expression)

@@ -197,8 +197,9 @@ class PrintTest(unittest.TestCase):
             ((0, 0), 0, (2, None, None), True, True), ((None, None), None, (None, None, None), False, False),
         ])
         self.assertEqual(print_contract(contract), "".join(line + "\n" for line in (
-            "letters 2", "answers 3", "state finish", "  over to 2", "  read 0 to 1", "  write 0 to 0", "  write 1 to 1",
-            "  write 2 to 2", "state silent", "  read 1 to 2", "  write 2 to 1", "state finish silent", "  over to 0",
+            "letters 2", "answers 3", "state finish", "  over to 2", "  read 0 to 1", "  write 0 to 0",
+            "  write 1 to 1", "  write 2 to 2", "state silent", "  read 1 to 2", "  write 2 to 1",
+            "state finish silent", "  over to 0",
             "  read 0 to 0", "  read 1 to 0", "  write 0 to 2", "state",
         )))
 
