@@ -42,10 +42,7 @@ class Program:
     def value_at(self, place, sight):
         """The elder value of a place at a sight of its procedure (point 11)."""
         procedure, role, size, expression = self.places[place]
-        value = value_of(expression, self._names[procedure], sight)
-        if role == "test":
-            return truth(value != 0)
-        return value % size
+        return reduced(role, size, value_of(expression, self._names[procedure], sight))
 
 
 def sights_of(sizes):
@@ -54,6 +51,13 @@ def sights_of(sizes):
     for size in sizes:
         sights = [sight + (value,) for sight in sights for value in range(size)]
     return tuple(sights)
+
+
+def reduced(role, size, value):
+    """The value of a place with this role and size where its expression has this value (point 11)."""
+    if role == "test":
+        return truth(value != 0)
+    return value % size
 
 
 def value_of(expression, names, sight):

@@ -1,5 +1,6 @@
 """Programs, texts and checks that several test files use."""
 
+from allmends.contracts import Contract
 from allmends.notation import parse_program
 from allmends.programs import Program
 from allmends.tables import parse_contract
@@ -37,3 +38,8 @@ def sample_contract():
 def open_state(letters=1, answers=2, target=0, finish=True, silence=True):
     """A state in which every event leads to the target."""
     return ([target] * letters, target, [target] * answers, finish, silence)
+
+
+def open_contract(letters=1, answers=2, **flags):
+    """A contract with one state in which every event is right."""
+    return Contract(letters, answers, [open_state(letters, answers, **flags)])

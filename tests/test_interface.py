@@ -4,8 +4,14 @@ import importlib
 import inspect
 import unittest
 
-from allmends.notation import parse_expression, print_program
+from allmends.changes import Change
+from allmends.contracts import Contract
+from allmends.edits import Draft, edits_at
+from allmends.fates import decide
+from allmends.notation import parse_expression, parse_program, print_program
+from allmends.papers import holds
 from allmends.programs import value_of
+from allmends.runs import run
 from tests.samples import sample_contract, sample_program
 
 SIGNATURES = {
@@ -31,6 +37,14 @@ SIGNATURES = {
         "turned": "program, change",
     },
     "bounds": {"weight": "program, contract"},
+    "edits": {
+        "edits_at": "program, place", "apply_edits": "program, edits", "Draft": "field, picks=()",
+        "Draft.pick": "self, place", "Draft.with_pick": "self, place, number", "Draft.fits": "self, program",
+        "Draft.edits": "self, program",
+    },
+    "runs": {"run": "program, contract, stream, change=None, *, steps=5000", "Run": None},
+    "fates": {"decide": "program, contract, change=None", "Fate": None},
+    "papers": {"holds": "program, contract, change, paper"},
 }
 
 
@@ -54,6 +68,55 @@ class ExamplesTest(unittest.TestCase):
     def test_contracts(self):
         self.assertEqual(sample_contract().follow(2, ("write", 1)), 4)
         self.assertIsNone(sample_contract().follow(2, ("write", 0)))
+
+    def test_edits(self):
+        self.assertEqual(edits_at(sample_program(), 1), (("put", ("number", 1)), ("drop",)))
+        self.assertEqual(
+            edits_at(sample_program(), 0), (("put", ("number", 1)), ("put", ("number", 2)), ("put", ("name", "x")))
+        )
+
+    def test_runs(self):
+        result = run(sample_program(), sample_contract(), [1, 0])
+        self.assertEqual(
+            (result.verdict, result.events, result.met, result.taken, result.steps),
+            ("bad event", (("read", 1), ("write", 0)), ((0, (1,)), (1, (0,))), 1, 3),
+        )
+        self.assertEqual(run(sample_program(), sample_contract(), [], Change([1])).asked, (1, (0,)))
+
+    def test_fates(self):
+        program, contract = sample_program(), sample_contract()
+        fate = decide(program, contract)
+        self.assertEqual((fate.word, fate.stream, fate.verdict), ("breaks", (1,), "bad event"))
+        fate = decide(program, contract, Change([0, 1], [(0, (0,), 0)]))
+        self.assertEqual(fate.asked, ((0, (1,)), (0, (2,)), (1, (0,))))
+        small = parse_program(
+            "letters 1 answers 2 global g 2 proc main() call p(1) write g end proc p(a 2) g = a end"
+        )
+        fate = decide(small, Contract(1, 2, [((0,), 0, (0, 0), True, False)]))
+        self.assertEqual(
+            fate.paper, (((0, (0,), 0, False), (), 1), ((1, (0, 1), 0, False), (((1,), 0, False, True),), 0))
+        )
+        self.assertEqual(
+            fate.uses,
+            (((0, (0,)), (1, (1,)), (2, (0, 1))), ((0, ("write", 1)),), (("finish", 0), ("silence", 0))),
+        )
+
+    def test_papers(self):
+        entries = [(0, (0,), 0), (0, (1,), 1), (0, (2,), 0), (1, (0,), 0), (1, (1,), 1)]
+        paper = [((0, (0,), 0, False), (), 0)]
+        self.assertIs(holds(sample_program(), sample_contract(), Change([0, 1], entries), paper), True)
+
+
+class AttributesTest(unittest.TestCase):
+    def test_attributes_are_set_when_the_object_is_created(self):
+        program, contract = sample_program(), sample_contract()
+        for found, names in (
+            (run(program, contract, []), "verdict breaks events met asked state taken steps"),
+            (decide(program, contract), "word stream verdict asked paper uses"),
+            (Draft([0]), "field picks"),
+        ):
+            for name in names.split():
+                self.assertIn(name, vars(found))
 
 
 class SignaturesTest(unittest.TestCase):

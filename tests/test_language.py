@@ -30,8 +30,10 @@ SPECIAL = set("__init__ __eq__ __repr__ __str__ __len__ __iter__ __contains__".s
 # Some of these are allowed under conditions that this file does not check: the package does without them.
 FORBIDDEN = (
     ast.Import, ast.Global, ast.AsyncFunctionDef, ast.Await, ast.Set, ast.GeneratorExp, ast.Div, ast.Try, ast.With,
-    ast.AnnAssign, ast.Delete, ast.Lambda, ast.Nonlocal, ast.Match,
+    ast.AnnAssign, ast.Lambda, ast.Nonlocal, ast.Match,
 )
+# L2
+LIBRARY = {"heapq": {"heappush", "heappop"}}
 
 
 def nodes(kind):
@@ -69,9 +71,14 @@ class FormTest(unittest.TestCase):
             if isinstance(node.value, str):
                 self.assertFalse("%" in node.value, (name, node.lineno))
             self.assertIsInstance(node.value, (int, str, type(None)))
+        for name, _, node in nodes(ast.Delete):
+            self.assertTrue(all(isinstance(target, ast.Subscript) for target in node.targets), (name, node.lineno))
 
     def test_imports_name_the_file_that_defines(self):
         for name, _, node in nodes(ast.ImportFrom):
+            if node.module in LIBRARY:
+                self.assertLessEqual({alias.name for alias in node.names}, LIBRARY[node.module], name)
+                continue
             self.assertTrue(node.module.startswith("allmends."), name)
             other = TREES[node.module.split(".")[1]]
             defined = {item.name for item in other.body if isinstance(item, (ast.FunctionDef, ast.ClassDef))}
@@ -83,7 +90,8 @@ class FormTest(unittest.TestCase):
     def test_no_two_files_import_from_each_other(self):
         below = {name: set() for name in TREES}
         for name, _, node in nodes(ast.ImportFrom):
-            below[name].add(node.module.split(".")[1])
+            if node.module not in LIBRARY:
+                below[name].add(node.module.split(".")[1])
         while below:
             free = [name for name, others in below.items() if not others]
             self.assertTrue(free, below)
