@@ -2,12 +2,10 @@
 
 from allmends.errors import TooLong
 from allmends.refusals import refuse_change, refuse_mismatch, refuse_weight
-from allmends.runs import run_on
+from allmends.runs import MOST_STEPS, run_on
 from allmends.silences import least_silence, quiet_ranks
 from allmends.steps import Machine
 from allmends.surveys import FAR, Survey
-
-MOST_STEPS = 5000
 
 
 class Fate:

@@ -5,6 +5,8 @@ from allmends.refusals import refuse_change, refuse_mismatch
 from allmends.steps import Machine
 
 MOST_LETTERS_TAKEN = 400
+# So many steps a run on a stream that breaks may make, where a question looks for it.
+MOST_STEPS = 5000
 
 
 class Run:
@@ -32,11 +34,19 @@ def run(program, contract, stream, change=None, *, steps=5000):
 
 def run_on(machine, stream, most_steps):
     """The run of a machine on a stream; raises TooLong if it does not stop after so many steps."""
+    found = run_within(machine, stream, most_steps)
+    if found is None:
+        raise TooLong("run")
+    return found
+
+
+def run_within(machine, stream, most_steps):
+    """The run of a machine on a stream, or None if it does not stop after so many steps."""
     course = Course(machine, stream)
     verdict = course.verdict_here()
     while verdict == "":
         if course.steps == most_steps:
-            raise TooLong("run")
+            return None
         verdict = course.go() or course.verdict_here()
     return course.told(verdict)
 

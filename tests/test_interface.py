@@ -4,10 +4,12 @@ import importlib
 import inspect
 import unittest
 
+from allmends.cases import enough
 from allmends.changes import Change
 from allmends.contracts import Contract
 from allmends.edits import Draft, edits_at
 from allmends.fates import decide
+from allmends.mending import mends
 from allmends.notation import parse_expression, parse_program, print_program
 from allmends.papers import holds
 from allmends.programs import value_of
@@ -45,6 +47,9 @@ SIGNATURES = {
     "runs": {"run": "program, contract, stream, change=None, *, steps=5000", "Run": None},
     "fates": {"decide": "program, contract, change=None", "Fate": None},
     "papers": {"holds": "program, contract, change, paper"},
+    "cases": {"enough": "program, contract, places, *, limit=64", "Answer": None},
+    "trees": {"tree_holds": "program, contract, places, tree"},
+    "mending": {"mends": "program, contract, places, *, limit=64", "Mends": None},
 }
 
 
@@ -106,6 +111,21 @@ class ExamplesTest(unittest.TestCase):
         paper = [((0, (0,), 0, False), (), 0)]
         self.assertIs(holds(sample_program(), sample_contract(), Change([0, 1], entries), paper), True)
 
+    def test_cases(self):
+        answer = enough(sample_program(), sample_contract(), [1])
+        self.assertEqual(
+            (answer.enough, answer.tree),
+            (False, (("ask", 1, (0,), (1, 2)), ("breaks", (1,), "bad event"), ("breaks", (0,), "bad event"))),
+        )
+        answer = enough(sample_program(), sample_contract(), [1, 0])
+        self.assertEqual(
+            (answer.enough, answer.places, answer.cases, answer.paper),
+            (True, (0, 1), 9, (((0, (0,), 0, False), (), 0),)),
+        )
+        self.assertEqual(
+            list(answer.change), [(0, (0,), 0), (0, (1,), 1), (0, (2,), 0), (1, (0,), 0), (1, (1,), 1)]
+        )
+
 
 class AttributesTest(unittest.TestCase):
     def test_attributes_are_set_when_the_object_is_created(self):
@@ -114,6 +134,9 @@ class AttributesTest(unittest.TestCase):
             (run(program, contract, []), "verdict breaks events met asked state taken steps"),
             (decide(program, contract), "word stream verdict asked paper uses"),
             (Draft([0]), "field picks"),
+            (enough(program, contract, [1]), "enough places change paper tree cases uses"),
+            (enough(program, contract, [0, 1]), "enough places change paper tree cases uses"),
+            (mends(program, contract, [1]), "places tree cases uses kept count least closest"),
         ):
             for name in names.split():
                 self.assertIn(name, vars(found))
