@@ -9,7 +9,8 @@ class Step:
     `kind` is "quiet", "event", "call", "end" or "asks". `used` has the entries whose values are used.
     `ways` has a triple (event, letters, target) for each thing that can happen: the event or None, the
     letters that it takes as a string, and the number of the next node, or None if the event is wrong.
-    `asked` is the unset entry, `callee` the number of the first node of the call that begins.
+    `asked` is the unset entry, `callee` the number of the first node of the call that begins, and
+    `behind` the numbers of the nodes behind that call by its endings, as far as they were looked for.
     """
 
     def __init__(self, kind, used, ways=(), asked=None, callee=None):

@@ -43,3 +43,31 @@ def open_state(letters=1, answers=2, target=0, finish=True, silence=True):
 def open_contract(letters=1, answers=2, **flags):
     """A contract with one state in which every event is right."""
     return Contract(letters, answers, [open_state(letters, answers, **flags)])
+
+
+# Near the bounds: 60 statements, nested six deep, five procedures with up to 64 sights, a weight near 200000.
+LARGE = """
+letters 1 answers 2 global f 2 global g 2 global h 2
+proc main() local x 2 local y 2 local z 2
+  read f
+  while not f do
+    x = x + 1 if x == 1 then if g then if h then if f < 1 then y = 1 - (y - (z + (x - g))) end end end end
+    call p(x, y, g) call q() write g read f
+  end
+  z = h if z then write 1 else write 0 end call s()
+  skip skip skip skip skip skip skip skip skip skip skip skip skip
+end
+proc p(a 2, b 2, c 2)
+  if a then g = b else g = c end h = h + a if b then h = 1 - h end if c and not a then f = a end
+end
+proc q() local u 2 local v 2 local w 2
+  read u if u then skip else call t() end v = g w = 1 - v if w == u then write w end
+end
+proc t() local u 2 local v 2 read u v = u if v then h = 1 - h end write h if h then call t() end skip end
+proc s() local u 2 local v 2 read u while v < 1 do v = v + 1 end write v g = 0 skip end
+"""
+
+
+def large_program():
+    """A program near the bounds of what a program may have."""
+    return parse_program(LARGE)
