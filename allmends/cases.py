@@ -1,6 +1,8 @@
 """Whether a set of places is enough (points 42 to 45)."""
 
+from allmends.branching import CaseBranches
 from allmends.growth import grown
+from allmends.refusals import refuse_question
 
 
 class Answer:
@@ -18,7 +20,8 @@ class Answer:
 
 def enough(program, contract, places, *, limit=64):
     """Whether some whole change of the places keeps the contract."""
-    growth = grown(program, contract, places, limit, True)
+    refuse_question(program, contract, places)
+    growth = grown(program, contract, CaseBranches(program, places), limit, True)
     ordered = tuple(sorted(places))
     rows = growth.all_rows()
     if not growth.kept:

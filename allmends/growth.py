@@ -1,16 +1,15 @@
-"""The tree of cases, gone through in its order (points 42 and 43)."""
+"""The trees of cases and of drafts, gone through in their order (points 42, 43 and 61)."""
 
-from allmends.changes import Change
 from allmends.errors import TooManyCases
 from allmends.fates import fate_of
-from allmends.refusals import refuse_mismatch, refuse_places, refuse_weight
 from allmends.steps import Machine
+from allmends.unions import Union
 
 
 class Growth:
     """What was found on the way through a tree.
 
-    `kept` has the cases that keep, `cases` is the number of those that ask.
+    `kept` has the cases (or drafts) that keep, `cases` is the number of those that ask.
     """
 
     def __init__(self, limit):
@@ -19,7 +18,7 @@ class Growth:
         self._limit = limit
         self._rows = []
         self._children = []
-        self._used = {}
+        self._union = Union()
 
     def go_to(self, case, parent, fate):
         """Adds a case with its fate below the row with the number `parent`, and returns its own number."""
@@ -28,8 +27,7 @@ class Growth:
             self._children[parent].append(number)
         self._children.append([])
         self._rows.append(row_of(fate))
-        for index, part in enumerate(fate.uses):
-            self._used.update({(index, item): True for item in part})
+        self._union.include(fate.uses)
         if fate.word == "keeps":
             self.kept.append(case)
         if fate.word == "asks":
@@ -47,8 +45,7 @@ class Growth:
 
     def all_uses(self):
         """The union of what all cases use, each part in ascending order."""
-        ordered = sorted(self._used)
-        return tuple([tuple([item for at, item in ordered if at == index]) for index in range(3)])
+        return self._union.told()
 
 
 def row_of(fate):
@@ -60,27 +57,18 @@ def row_of(fate):
     return ("keeps", fate.paper)
 
 
-def grown(program, contract, places, limit, stops):
-    """The tree of cases of these places; if `stops`, only as far as the first case that keeps."""
-    refuse_mismatch(program, contract)
-    refuse_places(program, places)
-    refuse_weight(program, contract)
-    first = Change(places)
-    machine = Machine(program, contract, first)
+def grown(program, contract, branches, limit, stops):
+    """The tree that branches in this way; if `stops`, only as far as the first case that keeps."""
+    machine = Machine(program, contract, branches.first)
     growth = Growth(limit)
-    waiting = [(first, None)]
+    waiting = [(branches.first, None)]
     while waiting and not (stops and growth.kept):
         case, parent = waiting.pop()
         machine.turn_to(case)
         fate = fate_of(machine)
         number = growth.go_to(case, parent, fate)
         if fate.word == "asks":
-            children = children_of(program, case, fate.asked[0])
+            place, sight = fate.asked[0]
+            children = branches.children(case, place, sight)
             waiting.extend([(child, number) for child in reversed(children)])
     return growth
-
-
-def children_of(program, case, entry):
-    """The cases that set an entry, too, one for each value of its place."""
-    place, sight = entry
-    return [case.with_entry(place, sight, value) for value in range(program.places[place][2])]

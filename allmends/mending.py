@@ -1,8 +1,10 @@
 """Mends, least mends and the closest ones (points 47 and 48)."""
 
+from allmends.branching import CaseBranches
 from allmends.changes import turned
 from allmends.forms import product_of
 from allmends.growth import grown
+from allmends.refusals import refuse_question
 
 
 class Mends:
@@ -21,7 +23,8 @@ class Mends:
 
 def mends(program, contract, places, *, limit=64):
     """All least mends of the places."""
-    growth = grown(program, contract, places, limit, False)
+    refuse_question(program, contract, places)
+    growth = grown(program, contract, CaseBranches(program, places), limit, False)
     count = sum([whole_changes(program, case) for case in growth.kept])
     found = [turned(program, case) for case in growth.kept]
     return Mends(tuple(sorted(places)), growth, count, least_of(found))
@@ -38,7 +41,7 @@ def whole_changes(program, case):
 
 
 def least_of(found):
-    """Those of some mends that have no other one as a part, the smallest first."""
+    """Those of some mends (or candidates) that have no other one as a part, the smallest first."""
     distinct = {mend: True for mend in found}
     least = []
     for size, mend in sorted([(len(mend), mend) for mend in distinct]):

@@ -70,22 +70,32 @@ class Machine:
         """The step at the node with this number."""
         found = self._steps[number]
         if found is None:
-            procedure, point, sight, state, over = self.nodes[number]
-            row = self.program.points(procedure)[point]
-            found = self._made(self.nodes[number], row)
+            found = self._made(number, self.choice)
             self._steps[number] = found
-            if any([self.choice.owns(place) for place in places_of(row)]):
+            if any([self.choice.owns(place) for place in self.places_at(number)]):
                 self._touched.append(number)
         return found
 
+    def step_with(self, number, change):
+        """The step that another change makes at the node with this number."""
+        return self._made(number, Values(self.program, change))
+
+    def row_at(self, number):
+        """The row of the point of a node."""
+        procedure, point, sight, state, over = self.nodes[number]
+        return self.program.points(procedure)[point]
+
+    def places_at(self, number):
+        """The places that the statement of a node has."""
+        return places_of(self.row_at(number))
+
     def behind_call(self, number, ending):
-        """The number of the node behind the call at a node, where the call has this ending."""
+        """The number of the node behind the call at a node, where the call has this ending, or this outcome."""
         behind = self.step(number).behind
         if ending not in behind:
             procedure, point, sight, state, over = self.nodes[number]
-            follows = self.program.points(procedure)[point][3]
             after = ending[0] + sight[len(ending[0]):]
-            behind[ending] = self.number_of((procedure, follows, after, ending[1], ending[2]))
+            behind[ending] = self.number_of((procedure, self.row_at(number)[3], after, ending[1], ending[2]))
         return behind[ending]
 
     def ending_at(self, number, quiet):
@@ -105,26 +115,28 @@ class Machine:
         """True if the program may be silent for ever in the state of a node."""
         return self.contract.states[self.nodes[number][3]][4]
 
-    def _made(self, node, row):
+    def _made(self, number, choice):
+        node = self.nodes[number]
+        row = self.row_at(number)
         if row[0] == "read":
             return self._read(node, row)
         if row[0] == "call":
-            return self._call(node, row)
+            return self._call(node, row, choice)
         if row[0] == "end":
             return Step("end", ())
         if row[0] == "skip":
             return self._quiet(node, row[1], node[2], ())
-        return self._valued(node, row)
+        return self._valued(node, row, choice)
 
-    def _valued(self, node, row):
+    def _valued(self, node, row, choice):
         """The step of a statement that has one place."""
         sight = node[2]
         place = places_of(row)[0]
-        if self.choice.drops(place):
+        if choice.drops(place):
             return self._quiet(node, row[2], sight, ())
-        value = self.choice.value_in(place, sight)
+        value = choice.value_in(place, sight)
         if value is None:
-            return Step("asks", (), asked=self.choice.entry_to_ask(place, sight))
+            return Step("asks", (), asked=choice.entry_to_ask(place, sight))
         used = ((place, sight),)
         if row[0] == "write":
             return Step("event", used, (self._way(node, ("write", value), row[2], sight, node[4]),))
@@ -155,14 +167,14 @@ class Machine:
         ]
         return Step("event", (), tuple(ways + [self._way(node, ("over",), point, behind, True)]))
 
-    def _call(self, node, row):
+    def _call(self, node, row, choice):
         procedure, point, sight, state, over = node
         used = []
         passed = ()
         for place in row[2]:
-            value = self.choice.value_in(place, sight)
+            value = choice.value_in(place, sight)
             if value is None:
-                return Step("asks", tuple(used), asked=self.choice.entry_to_ask(place, sight))
+                return Step("asks", tuple(used), asked=choice.entry_to_ask(place, sight))
             used.append((place, sight))
             passed = passed + (value,)
         begin = sight[:len(self.program.variables)] + passed

@@ -1,10 +1,9 @@
-"""The checker of trees of cases (point 46)."""
+"""The checker of trees of cases and of drafts (points 46 and 63)."""
 
-from allmends.changes import Change
+from allmends.branching import CaseBranches
 from allmends.forms import frozen
-from allmends.growth import children_of
 from allmends.papers import paper_holds
-from allmends.refusals import refuse_mismatch, refuse_places, refuse_weight
+from allmends.refusals import refuse_question
 from allmends.runs import MOST_STEPS, run_within
 from allmends.steps import Machine
 from allmends.surveys import LONGEST_STREAM
@@ -12,13 +11,19 @@ from allmends.surveys import LONGEST_STREAM
 
 def tree_holds(program, contract, places, tree):
     """True if the tree is one of cases of these places, and all of its leaves are right."""
-    refuse_mismatch(program, contract)
-    refuse_places(program, places)
-    refuse_weight(program, contract)
+    refuse_question(program, contract, places)
+    return rows_hold(program, contract, CaseBranches(program, places), tree)
+
+
+def rows_hold(program, contract, branches, tree):
+    """True if the tree branches in this way, and all of its leaves are right."""
     rows = frozen(tree)
-    first = Change(places)
-    machine = Machine(program, contract, first)
-    return has_one_root(rows) and cases_hold(machine, rows, first)
+    return has_one_root(rows) and cases_hold(Machine(program, contract, branches.first), branches, rows)
+
+
+def has_keeps_row(tree):
+    """True if a tree has a keeps row: then it does not show that nothing keeps."""
+    return any([row[0] == "keeps" for row in tree])
 
 
 def has_one_root(rows):
@@ -38,36 +43,33 @@ def children_in(row):
     return row[3] if row[0] == "ask" else ()
 
 
-def cases_hold(machine, rows, first):
+def cases_hold(machine, branches, rows):
     """True if the rows are right for their cases, where row 0 has the first one."""
-    cases = {0: first}
+    cases = {0: branches.first}
     for number, row in enumerate(rows):
         case = cases[number]
-        if not is_right(machine, row, case):
-            return False
         if row[0] == "ask":
-            children = children_of(machine.program, case, row[1:3])
-            cases.update({child: below for child, below in zip(row[3], children)})
+            below = children_of(branches, case, row)
+            if not below or len(below) != len(row[3]):
+                return False
+            cases.update({child: inner for child, inner in zip(row[3], below)})
+        elif not is_right_leaf(machine, row, case):
+            return False
     return True
 
 
-def is_right(machine, row, case):
-    """True if a row is right for a case."""
-    if row[0] == "ask":
-        return is_right_ask(machine.program, row, case)
+def children_of(branches, case, row):
+    """The cases below an ask row in their order; none if its case may not ask what it asks."""
+    word, place, sight, children = row
+    return branches.children(case, place, sight) if branches.may_ask(case, place, sight) else []
+
+
+def is_right_leaf(machine, row, case):
+    """True if a breaks or a keeps row is right for a case."""
     machine.turn_to(case)
     if row[0] == "keeps":
         return paper_holds(machine, row[1])
     return is_right_break(machine, row)
-
-
-def is_right_ask(program, row, case):
-    """True if a row asks an entry that its case may ask, and has a child for each value."""
-    word, place, sight, children = row
-    if place not in case.places or (place, sight) in case:
-        return False
-    procedure, role, size, expression = program.places[place]
-    return sight in program.sights(procedure) and len(children) == size
 
 
 def is_right_break(machine, row):

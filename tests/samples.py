@@ -30,6 +30,16 @@ def has_only_tuples(value):
     return value is None or isinstance(value, (int, str))
 
 
+def as_lists(value):
+    """The value with a list in the place of each tuple, at every depth."""
+    return [as_lists(part) for part in value] if isinstance(value, tuple) else value
+
+
+def places_with(program, role):
+    """The places of a program that have this role."""
+    return [place for place, row in enumerate(program.places) if row[1] == role]
+
+
 def sample_contract():
     """The contract of the document's examples."""
     return parse_contract(RULES)
@@ -71,3 +81,39 @@ proc s() local u 2 local v 2 read u while v < 1 do v = v + 1 end write v g = 0 s
 def large_program():
     """A program near the bounds of what a program may have."""
     return parse_program(LARGE)
+
+
+def heavy_pair():
+    """A program and a contract that are too heavy for any question, with a place."""
+    program = parse_program(
+        "letters 1 answers 2 global f 4 global g 4 global h 4 proc main() "
+        + "write 0 " * 10 + "end proc p() " + "skip " * 30 + "end"
+    )
+    return program, Contract(1, 2, [open_state()] * 8)
+
+
+# A run on a stream of 252 letters comes to the letter that is wrong.
+FAR = (
+    "letters 1 answers 2 global g 2 proc main() if 1 then " + "call p() " * 7 + "write g else write {} end end "
+    "proc p() " + "call q() " * 6 + "end proc q() " + "read g " * 6 + "end"
+)
+
+
+def free_pair(many=49, answers=2):
+    """A program with so many writes and a contract; with 49 writes their weight is exactly 8000."""
+    program = parse_program(
+        f"letters 1 answers {answers} global g 4 proc main() local x 4 " + "write 0 " * many + "end"
+    )
+    # Each write of a 1 leads to the next of five states, and nothing else is right.
+    states = [([None], None, [None, (state + 1) % 5] + [None] * (answers - 2), True, True) for state in range(5)]
+    return program, Contract(1, answers, states)
+
+
+def calling_pair(many=29):
+    """A program that calls and a contract with two states; with 29 statements their weight is exactly 8000."""
+    program = parse_program(
+        "letters 1 answers 2 global g 4 proc main() call p() write g " + "skip " * 17 + "end proc p() "
+        + "g = g + 1 " * many + "end"
+    )
+    states = [([None], None, [None, 1], False, True), ([None], None, [None, None], True, True)]
+    return program, Contract(1, 2, states)

@@ -7,6 +7,8 @@ import unittest
 from allmends.cases import enough
 from allmends.changes import Change
 from allmends.contracts import Contract
+from allmends.duality import maximal, transversals
+from allmends.editlists import least_edits
 from allmends.edits import Draft, edits_at
 from allmends.fates import decide
 from allmends.mending import mends
@@ -14,6 +16,7 @@ from allmends.notation import parse_expression, parse_program, print_program
 from allmends.papers import holds
 from allmends.programs import value_of
 from allmends.runs import run
+from allmends.sets import least_sets
 from tests.samples import sample_contract, sample_program
 
 SIGNATURES = {
@@ -50,6 +53,16 @@ SIGNATURES = {
     "cases": {"enough": "program, contract, places, *, limit=64", "Answer": None},
     "trees": {"tree_holds": "program, contract, places, tree"},
     "mending": {"mends": "program, contract, places, *, limit=64", "Mends": None},
+    "duality": {"minimal": "sets", "maximal": "sets", "transversals": "sets"},
+    "sets": {
+        "least_sets": "program, contract, field, *, limit=64", "SetLists": None,
+        "sets_hold": "program, contract, field, least, mended, greatest, refuted",
+    },
+    "editlists": {
+        "least_edits": "program, contract, field, *, width=2, limit=64", "EditLists": None,
+        "draft_tree_holds": "program, contract, field, width, tree",
+    },
+    "plans": {"plan_holds": "program, contract, places, plan", "spoiling_holds": "program, contract, places, spoiling"},
 }
 
 
@@ -126,6 +139,18 @@ class ExamplesTest(unittest.TestCase):
             list(answer.change), [(0, (0,), 0), (0, (1,), 1), (0, (2,), 0), (1, (0,), 0), (1, (1,), 1)]
         )
 
+    def test_duality(self):
+        self.assertEqual(transversals([(0, 1), (2, 1)]), ((1,), (0, 2)))
+        self.assertEqual(
+            (transversals([]), transversals([(3,), ()]), maximal([(0,), (1, 0), (0,)])), (((),), (), ((0, 1),))
+        )
+
+    def test_sets(self):
+        lists = least_sets(sample_program(), sample_contract(), [0, 1])
+        self.assertEqual(
+            (lists.least, lists.greatest, lists.asked), (((0, 1),), ((0,), (1,)), ((), (0,), (0, 1), (1,)))
+        )
+
 
 class AttributesTest(unittest.TestCase):
     def test_attributes_are_set_when_the_object_is_created(self):
@@ -137,6 +162,8 @@ class AttributesTest(unittest.TestCase):
             (enough(program, contract, [1]), "enough places change paper tree cases uses"),
             (enough(program, contract, [0, 1]), "enough places change paper tree cases uses"),
             (mends(program, contract, [1]), "places tree cases uses kept count least closest"),
+            (least_sets(program, contract, [0]), "field least greatest mended refuted asked uses"),
+            (least_edits(program, contract, [0]), "field width tree cases uses kept picks least"),
         ):
             for name in names.split():
                 self.assertIn(name, vars(found))
