@@ -68,7 +68,8 @@ class DraftTreeTest(unittest.TestCase):
         self.assertIs(holds((BREAKS,), ()), True)
         self.assertIs(holds((KEEPS,), ()), False)
         self.assertIs(holds((KEEPS,), (), contract=open_contract()), True)
-        self.assertIs(holds((("ask", 0, (), ()),)), False)
+        for place, sight in ((0, ()), (0, (0,)), (2, ()), (99, ()), (-1, ())):
+            self.assertIs(holds((("ask", place, sight, ()),)), False)
 
     def test_a_place_that_is_not_in_the_field(self):
         self.assertIs(holds(WHOLE, (0,)), False)

@@ -6,7 +6,9 @@ import unittest
 
 from allmends.cases import enough
 from allmends.changes import Change
+from allmends.claims import Claim, claim_text
 from allmends.contracts import Contract
+from allmends.desk import Desk
 from allmends.duality import maximal, transversals
 from allmends.editlists import least_edits
 from allmends.edits import Draft, edits_at
@@ -14,6 +16,7 @@ from allmends.fates import decide
 from allmends.mending import mends
 from allmends.notation import parse_expression, parse_program, print_program
 from allmends.papers import holds
+from allmends.play import free_play
 from allmends.programs import value_of
 from allmends.runs import run
 from allmends.sets import least_sets
@@ -63,6 +66,22 @@ SIGNATURES = {
         "draft_tree_holds": "program, contract, field, width, tree",
     },
     "plans": {"plan_holds": "program, contract, places, plan", "spoiling_holds": "program, contract, places, spoiling"},
+    "play": {"free_play": "program, contract, places", "Play": None},
+    "amendments": {
+        "amended": "program, place, expression", "untouched": "uses, program, later, contract, later_contract",
+    },
+    "claims": {
+        "Claim": "enough, places, change, paper, tree", "claim_holds": "program, contract, claim", "claim_text": "claim",
+        "parse_claim": "text",
+    },
+    "desk": {
+        "Desk": "", "Desk.add_program": "self, name, text", "Desk.add_contract": "self, name, text",
+        "Desk.amend": "self, name, place, expression", "Desk.set_row": "self, name, state, event, target",
+        "Desk.set_flags": "self, name, state, *, finish=None, silence=None", "Desk.undo": "self", "Desk.redo": "self",
+        "Desk.program": "self, name", "Desk.contract": "self, name",
+        "Desk.ask": "self, program, contract, places, *, limit=64",
+        "Desk.ask_sets": "self, program, contract, field, *, limit=64", "Desk.report": "self", "replay": "deeds",
+    },
 }
 
 
@@ -151,6 +170,16 @@ class ExamplesTest(unittest.TestCase):
             (lists.least, lists.greatest, lists.asked), (((0, 1),), ((0,), (1,)), ((), (0,), (0, 1), (1,)))
         )
 
+    def test_play(self):
+        self.assertIs(free_play(sample_program(), sample_contract(), [1]).enough, True)
+        self.assertIs(free_play(sample_program(), sample_contract(), [0]).enough, False)
+
+    def test_claims(self):
+        self.assertEqual(
+            claim_text(enough(sample_program(), sample_contract(), [1])),
+            "refuted 1\nask 1 1 2 at 0\nbreaks event 1\nbreaks event 0\n",
+        )
+
 
 class AttributesTest(unittest.TestCase):
     def test_attributes_are_set_when_the_object_is_created(self):
@@ -164,6 +193,10 @@ class AttributesTest(unittest.TestCase):
             (mends(program, contract, [1]), "places tree cases uses kept count least closest"),
             (least_sets(program, contract, [0]), "field least greatest mended refuted asked uses"),
             (least_edits(program, contract, [0]), "field width tree cases uses kept picks least"),
+            (free_play(program, contract, [1]), "enough places plan spoiling"),
+            (free_play(program, contract, [0]), "enough places plan spoiling"),
+            (Claim(True, [1], None, (), ()), "enough places change paper tree"),
+            (Desk(), "history searches"),
         ):
             for name in names.split():
                 self.assertIn(name, vars(found))

@@ -110,6 +110,27 @@ class FormTest(unittest.TestCase):
             self.assertFalse(hasattr(builtins, node.arg), (name, node.arg))
             self.assertNotIn(node.arg, BARRED, name)
 
+    def test_names_of_imports_and_classes_mean_nothing_else(self):
+        for name, tree in TREES.items():
+            imported = [alias.name for node in tree.body if isinstance(node, ast.ImportFrom) for alias in node.names]
+            defined = [node.name for node in tree.body if isinstance(node, (ast.FunctionDef, ast.ClassDef))]
+            self.assertEqual(len(set(imported + defined)), len(imported + defined), name)
+            classes = [node.name for node in tree.body if isinstance(node, ast.ClassDef)]
+            stored = {node.id for node in ast.walk(tree) if isinstance(node, ast.Name) and isinstance(node.ctx, ast.Store)}
+            stored |= {node.arg for node in ast.walk(tree) if isinstance(node, ast.arg)}
+            self.assertEqual(stored & set(imported + classes), set(), name)
+            used = {node.id for node in ast.walk(tree) if isinstance(node, ast.Name)}
+            self.assertLessEqual(set(imported), used, name)
+
+    def test_no_name_is_a_method_and_an_attribute_of_a_class(self):
+        for name, _, node in nodes(ast.ClassDef):
+            methods = {item.name for item in node.body if isinstance(item, ast.FunctionDef)}
+            stored = {
+                inner.attr for inner in ast.walk(node) if isinstance(inner, ast.Attribute)
+                and isinstance(inner.ctx, ast.Store) and isinstance(inner.value, ast.Name) and inner.value.id == "self"
+            }
+            self.assertEqual(methods & stored, set(), (name, node.name))
+
     def test_methods(self):
         own = {node.name for _, _, node in nodes(ast.FunctionDef)}
         for name, _, node in nodes(ast.Call):

@@ -126,8 +126,10 @@ class ReadingTest(unittest.TestCase):
         self.assertIs(self.holds(behind), False)
         # A row that leads to itself: the loop would never spoil.
         loop = parse_program("letters 1 answers 2 proc main() while 1 do end end")
-        own = (((0, (), 0, False), (), (0, 0, (), 0, False), (("go", None, 0),)),)
-        self.assertIs(spoiling_holds(loop, open_contract(), (), own), False)
+        for number in (0, 1, -1, -2):
+            own = (((0, (), 0, False), (), (0, 0, (), 0, False), (("go", None, number),)),)
+            self.assertIs(spoiling_holds(loop, open_contract(), (), own), False)
+            self.assertIs(spoiling_holds(loop, open_contract(), (), own * 2), False)
 
     def test_rows_of_another_opening_or_with_other_forbidden_outcomes(self):
         for opening, forbidden in (((0, (0,), 0, True), ()), ((0, (0,), 1, False), ()), (self.MAIN, (((), 0, False),))):

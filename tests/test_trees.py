@@ -45,6 +45,9 @@ class SampleTreeTest(unittest.TestCase):
         self.assertIs(self.holds((self.FIRST,)), False)
         self.assertIs(self.holds((self.FIRST,), ()), True)
         self.assertIs(self.holds((("ask", 1, (0,), ()),)), False)
+        # Nor one that asks what may not be asked, and has no children.
+        for place, sight in ((0, (0,)), (2, (0,)), (99, ()), (-1, (0,)), (1, (3,))):
+            self.assertIs(self.holds((("ask", place, sight, ()),)), False)
 
     def test_children(self):
         for children in ((2, 1), (1, 1), (2, 2), (1,), (2,), (), (1, 2, 1), (1, 3), (0, 1), (1, -1), (0, 0), (1, 99)):
